@@ -30,3 +30,10 @@ class Post:
         if not is_whole(number) or number not in self._things:
             raise NoLetter("nothing of this number is there")
         return self._things[number]
+
+    def copied(self):
+        """Another post in which the same is there."""
+        other = Post(self._bound)
+        other._many = self._many
+        other._things = dict(self._things)
+        return other

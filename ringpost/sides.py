@@ -32,6 +32,13 @@ class Sender:
         if self._base + step <= self._top:
             self._base = self._base + step
 
+    def copied(self):
+        """Another sender that stands likewise."""
+        other = Sender(self._window, self._ring, self._many)
+        other._base = self._base
+        other._top = self._top
+        return other
+
     def _may_send(self, k):
         if not is_whole(k) or k < self._base or k > self._top:
             return False
@@ -68,6 +75,14 @@ class Taker:
             self._kept[place] = text
         self._bring_out()
         return self._want % self._ring
+
+    def copied(self):
+        """Another taker that stands likewise."""
+        other = Taker(self._room, self._ring)
+        other._want = self._want
+        other._gone = list(self._gone)
+        other._kept = dict(self._kept)
+        return other
 
     def _bring_out(self):
         while self._want in self._kept:
