@@ -56,7 +56,7 @@ def come_old_answer(trail, window, room, ring):
 
 
 def go_on(trail, start, end):
-    """Brings the texts from start to ahead of end, and tells of each ahead of the one behind it."""
+    """Brings the texts from start to end, without end, and first tells of what came till then."""
     for k in range(start, end):
         trail.told_newest()
         trail.brought(k)

@@ -9,8 +9,8 @@ def finishing(run):
     trail = Trail(course)
     base, _, want = course.counts()
     if base < want:
-        # The newest answer bears the want, and the want is no further ahead
-        # of the base than the window: so the base is the want then.
+        # The newest answer bears the want, and with such a ring the sender
+        # can't take it for another one: the base is the want then.
         trail.told_newest()
     while is_text_wanted(course):
         trail.brought(course.counts()[2])
