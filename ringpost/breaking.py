@@ -40,7 +40,7 @@ def come_old_letter(trail, window, delay, ring):
 def come_old_answer(trail, window, room, ring):
     """An answer from when text 1 was wanted comes as one for text ring and one."""
     old = trail.brought(0)
-    trail.told_newest()
+    trail.told_want()
     # While text 1 is lost, the room behind it fills, and it is still wanted.
     trail.done("send", 1)
     for k in range(2, room + 1):
@@ -49,7 +49,7 @@ def come_old_answer(trail, window, room, ring):
     # The more came out by one letter, the fewer answers are behind the old one.
     last = ring + 1 - window
     go_on(trail, room + 1, last)
-    trail.told_newest()
+    trail.told_want()
     for k in range(last, ring + 1):
         trail.done("send", k)
     trail.done("tell", old)
@@ -58,5 +58,5 @@ def come_old_answer(trail, window, room, ring):
 def go_on(trail, start, end):
     """Brings the texts from start to end, without end, and first tells of what came till then."""
     for k in range(start, end):
-        trail.told_newest()
+        trail.told_want()
         trail.brought(k)

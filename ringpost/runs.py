@@ -53,6 +53,10 @@ class Run:
             told.append((number, bears, text))
         return told
 
+    def useful(self):
+        """The numbers of the letters that are there and whose text the taker would keep, rising."""
+        return [number for number, bears, _ in self.letters() if self._taker.keeps(bears)]
+
     def answers(self):
         """The answers that are there, rising: number, what it bears."""
         return [(number, self._answers.taken(number)) for number in self._answers.there()]

@@ -67,12 +67,15 @@ class Taker:
         """The places for which a text is kept, each with its text, rising."""
         return sorted(self._kept.items())
 
+    def keeps(self, number):
+        """Whether the text of a letter that bears this number would be kept."""
+        step = self._step(number)
+        return step < self._room and self._want + step not in self._kept
+
     def came(self, number, text):
         """Takes a letter: the number that its answer bears."""
-        step = (number - self._want) % self._ring
-        place = self._want + step
-        if step < self._room and place not in self._kept:
-            self._kept[place] = text
+        if self.keeps(number):
+            self._kept[self._want + self._step(number)] = text
         self._bring_out()
         return self._want % self._ring
 
@@ -83,6 +86,9 @@ class Taker:
         other._gone = list(self._gone)
         other._kept = dict(self._kept)
         return other
+
+    def _step(self, number):
+        return (number - self._want) % self._ring
 
     def _bring_out(self):
         while self._want in self._kept:

@@ -49,7 +49,11 @@ class Trail:
         letter = self.done("send", k)
         return self.done("hand", letter)
 
-    def told_newest(self):
-        """Tells the sender the newest answer, which is always there: the base then."""
-        newest = self._run.answers()[-1]
-        return self.done("tell", newest[0])
+    def told_want(self):
+        """Tells the sender what the newest answer bears, which is the want."""
+        answers = self._run.answers()
+        _, want = answers[-1]
+        # An older answer that bears the same says the same, and its number is
+        # lesser: numbers of steps have an end.
+        alike = [number for number, bears in answers if bears == want]
+        self.done("tell", alike[0])

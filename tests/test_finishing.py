@@ -119,11 +119,28 @@ class TestFinishing(unittest.TestCase):
         run.do(("send", 0))
         self.assertEqual(finishing(Run((2, 2, 1, 1), 5, texts_of(3))), again)
 
-    def test_up_to_the_greatest_number(self):
-        run = Run((1, 1, 0, 0), 2, ["a"])
-        for _ in range(999999):
-            run.do(("send", 0))
-        self.assertEqual(self.finishes(run, ["a"])[-2], ("hand", 999999))
+    def test_up_to_the_greatest_number_of_a_letter(self):
+        texts = texts_of(2)
+        run = done((2, 2, 1, 1), 5, texts, [("send", 0)] * 999998)
+        other = run.copied()
+        run.do(("send", 0))
+        self.assertIn(("hand", 999999), self.finishes(run, texts))
+        # No letter behind these two can be named, and each of them is needed.
+        other.do(("send", 1))
+        self.assertEqual(other.do(("send", 0)), 999999)
+        self.finishes(other, texts)
+
+    def test_up_to_the_greatest_number_of_an_answer(self):
+        run = done((1, 1, 0, 1), 3, ["a"], [("send", 0)] + [("hand", 0)] * 1000001)
+        self.assertEqual(run.answers(), [(999999, 1), (1000000, 1)])
+        self.assertEqual(self.finishes(run, ["a"]), [("tell", 999999)])
+
+    def test_with_letters_that_are_there(self):
+        steps = [("send", 0), ("send", 1), ("send", 2), ("send", 3), ("hand", 2)]
+        run = done((4, 4, 20, 0), 28, texts_of(4), steps)
+        told = self.finishes(run, texts_of(4))
+        self.assertEqual([number for word, number in told if word == "hand"], [0, 1, 3])
+        self.assertNotIn("send", [word for word, _ in told])
 
 
 if __name__ == "__main__":
